@@ -9,7 +9,7 @@ import (
 	"sluice/wire"
 )
 
-// ack tells a segment's bytes with a number in it, and reply a reply's with a signed one: what is asked for stands between bytes that are known.
+// ackBytes tells a segment's bytes with a number as its Ack, valueBytes a reply's with a signed one as its Value.
 func ackBytes(number string) []byte { return join(raw("00 01 00"), raw(number), raw("00")) }
 
 func valueBytes(number string) []byte { return join(raw("00 09 00"), raw(number)) }
