@@ -4,9 +4,8 @@ import (
 	"bytes"
 
 	"sluice/api"
+	"sluice/number"
 )
-
-const maxBytes = 10 // of a number
 
 // reader: a hand that fills in what it reads. It gives up with at as the place to be told.
 type reader struct {
@@ -43,10 +42,7 @@ func (r *reader) number(n *int, low, high int) {
 	*n = int(u)
 }
 
-func (r *reader) signed(n *int) {
-	u := r.get()
-	*n = int(u>>1) ^ -int(u&1)
-}
+func (r *reader) signed(n *int) { *n = number.Unfold(r.get()) }
 
 func (r *reader) text(s *string, length int, above string) {
 	start := r.at
@@ -70,15 +66,10 @@ func (r *reader) take(length int) []byte {
 
 // get reads a number: P201, and how P208 looks at it.
 func (r *reader) get() uint64 {
-	start := r.at
-	u, n, last := uint64(0), 0, byte(128)
-	for last >= 128 && n < maxBytes {
-		last = r.take(1)[0]
-		u |= uint64(last&127) << (7 * n)
-		n++
+	u, at, e := number.Read(r.in[r.at:])
+	if e != api.OK {
+		r.giveUp(r.at + at)
 	}
-	if n > 1 && last == 0 || n == maxBytes && last != 1 {
-		r.giveUp(start)
-	}
+	r.at += at
 	return u
 }

@@ -1,6 +1,9 @@
 package wire
 
-import "sluice/api"
+import (
+	"sluice/api"
+	"sluice/number"
+)
 
 // refusal: what a writer, or a reader, throws when it gives up.
 type refusal struct{}
@@ -27,10 +30,7 @@ func (w *writer) number(n *int, low, high int) {
 	w.put(uint64(*n))
 }
 
-func (w *writer) signed(n *int) {
-	// All bits of n >> 63 are ones below 0: so 2n is turned into -2n - 1 without leaving 64 bits.
-	w.put(uint64(*n)<<1 ^ uint64(*n>>63))
-}
+func (w *writer) signed(n *int) { w.put(number.Fold(*n)) }
 
 func (w *writer) text(s *string, _ int, above string) {
 	if !goodName(*s, above) {
@@ -42,9 +42,4 @@ func (w *writer) text(s *string, _ int, above string) {
 func (w *writer) data(b *[]byte, _ int) { w.out = append(w.out, *b...) }
 
 // put writes a number: P201.
-func (w *writer) put(u uint64) {
-	for ; u > 127; u >>= 7 {
-		w.out = append(w.out, byte(u)|128)
-	}
-	w.out = append(w.out, byte(u))
-}
+func (w *writer) put(u uint64) { w.out = append(w.out, number.Bytes(u)...) }
