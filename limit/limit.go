@@ -1,4 +1,4 @@
-// Package limit: how long a script may be that is played whole.
+// Package limit: scripts that are played whole, and how long they may be.
 package limit
 
 import "sluice/api"
@@ -22,4 +22,16 @@ func looks(steps []api.Step) int {
 		}
 	}
 	return n
+}
+
+// Run takes a script's steps, one behind the other, and tells their answers: api.ErrLong as of Check.
+func Run(steps []api.Step, do func(s api.Step) api.Answer) ([]api.Answer, api.Errno) {
+	if e := Check(steps); e != api.OK {
+		return nil, e
+	}
+	var answers []api.Answer
+	for _, s := range steps {
+		answers = append(answers, do(s))
+	}
+	return answers, api.OK
 }

@@ -2,6 +2,7 @@ package limit_test
 
 import (
 	"math"
+	"slices"
 	"testing"
 
 	"sluice/api"
@@ -59,4 +60,35 @@ func wantKind(t *testing.T, kind int, look bool) {
 	}
 	wantLong(t, "one too many of a kind", steps, look)
 	wantLong(t, "as many as may be", steps[2:], false)
+}
+
+// Each step is taken once, in its turn, and its answer stands in its place; of too long a script none is taken.
+func TestP1503Run(t *testing.T) {
+	var taken []int
+	do := func(s api.Step) api.Answer {
+		taken = append(taken, s.I)
+		return api.Answer{Err: api.Errno(s.I * 2)}
+	}
+	steps := []api.Step{{I: 3}, {I: 1}, {I: 2, Kind: api.StepSee}, {I: 1}}
+	answers, e := limit.Run(steps, do)
+	if e != api.OK || len(answers) != 4 || !slices.Equal(taken, []int{3, 1, 2, 1}) {
+		t.Fatalf("Run: %d, %+v, taken %v", e, answers, taken)
+	}
+	for i, a := range answers {
+		if a.Err != api.Errno(steps[i].I*2) {
+			t.Errorf("the answer %d: %+v", i, a)
+		}
+	}
+	if answers, e := limit.Run(nil, do); e != api.OK || len(answers) != 0 {
+		t.Errorf("no steps: %d, %+v", e, answers)
+	}
+	taken = nil
+	for _, long := range [][]api.Step{make([]api.Step, api.MaxSteps+1), slices.Repeat(steps, api.MaxLooks+1)} {
+		if answers, e := limit.Run(long, do); e != api.ErrLong || len(answers)+len(taken) != 0 {
+			t.Errorf("%d steps: %d, %d answers, %d taken", len(long), e, len(answers), len(taken))
+		}
+	}
+	if answers, e := limit.Run(slices.Repeat(steps, api.MaxLooks), do); e != api.OK || len(answers) != 4*api.MaxLooks {
+		t.Errorf("as many looks as may be: %d, %d answers", e, len(answers))
+	}
 }
